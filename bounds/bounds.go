@@ -22,3 +22,13 @@ func Elements(list []int) bool {
 func Client(id int) bool {
 	return id >= 1 && id <= api.MaxClients
 }
+
+// Key tells whether a can be a public key.
+func Key(a int) bool {
+	return a >= 1 && a < api.Prime
+}
+
+// Word tells whether a can be a number of a list.
+func Word(a int) bool {
+	return a >= 0 && a < api.Word
+}

@@ -5,6 +5,7 @@ import (
 	"veil/api"
 	"veil/bounds"
 	"veil/field"
+	"veil/frame"
 	"veil/pad"
 	"veil/share"
 )
@@ -51,10 +52,14 @@ func Open(key, from, to, x, y, z int) (int, int, api.Errno) {
 }
 
 // Encode writes a frame as bytes (P7).
-func Encode(f api.Frame) ([]byte, api.Errno) { return nil, api.OK }
+func Encode(f api.Frame) ([]byte, api.Errno) {
+	return frame.Encode(f)
+}
 
 // Decode reads a frame (P7).
-func Decode(b []byte) (api.Frame, api.Errno) { return api.Frame{}, api.OK }
+func Decode(b []byte) (api.Frame, api.Errno) {
+	return frame.Decode(b)
+}
 
 // Client is one of those whose lists are added up.
 type Client struct{}
