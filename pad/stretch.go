@@ -15,8 +15,13 @@ func Stretch(seed, n int) ([]int, api.Errno) {
 	}
 	mask := make([]int, 0, n)
 	for i := 1; i <= n; i++ {
-		p := number(seed, i)
-		mask = append(mask, p/dropped%api.Word)
+		mask = append(mask, MaskNumber(seed, i))
 	}
 	return mask, api.OK
+}
+
+// MaskNumber gives the number i of the mask that Stretch makes out of a seed;
+// the first is number 1. Both that it is handed are elements.
+func MaskNumber(seed, i int) int {
+	return number(seed, i) / dropped % api.Word
 }

@@ -19,15 +19,16 @@ func Split(secret int, draws []int, n int) ([]int, api.Errno) {
 	}
 	shares := make([]int, 0, n)
 	for x := 1; x <= n; x++ {
-		value := valueAt(secret, draws, x)
+		value := Number(secret, draws, x)
 		shares = append(shares, value)
 	}
 	return shares, api.OK
 }
 
-// valueAt gives the value at x of the polynomial that begins with secret and
-// goes on with draws.
-func valueAt(secret int, draws []int, x int) int {
+// Number gives the share number x of a secret: the value at x of the polynomial
+// that begins with secret and goes on with draws. All that it is handed are
+// elements.
+func Number(secret int, draws []int, x int) int {
 	value := 0
 	for i := len(draws) - 1; i >= 0; i-- {
 		value = field.Plus(value, draws[i])

@@ -4,6 +4,7 @@ package veil
 import (
 	"veil/api"
 	"veil/bounds"
+	"veil/client"
 	"veil/field"
 	"veil/frame"
 	"veil/pad"
@@ -62,22 +63,38 @@ func Decode(b []byte) (api.Frame, api.Errno) {
 }
 
 // Client is one of those whose lists are added up.
-type Client struct{}
+type Client struct {
+	inner client.Client
+}
 
 // NewClient makes a client (P8).
-func NewClient(c api.Config, id int, d api.Draw) (*Client, api.Errno) { return nil, api.OK }
+func NewClient(c api.Config, id int, d api.Draw) (*Client, api.Errno) {
+	inner, e := client.New(c, id, d)
+	if e != api.OK {
+		return nil, e
+	}
+	return &Client{inner: inner}, api.OK
+}
 
 // Hello is the client's first frame (P8).
-func (x *Client) Hello() []byte { return nil }
+func (x *Client) Hello() []byte {
+	return x.inner.Hello()
+}
 
 // Take takes bytes in, and gives the answer (P9 to P11).
-func (x *Client) Take(b []byte) []byte { return nil }
+func (x *Client) Take(b []byte) []byte {
+	return x.inner.Take(b)
+}
 
 // Phase tells what the client waits for (P8).
-func (x *Client) Phase() int { return 0 }
+func (x *Client) Phase() int {
+	return x.inner.Phase()
+}
 
 // Released tells which shares the client has told (P11).
-func (x *Client) Released() []api.Item { return nil }
+func (x *Client) Released() []api.Item {
+	return x.inner.Released()
+}
 
 // Server adds the masked lists up.
 type Server struct{}
