@@ -8,6 +8,7 @@ import (
 	"veil/field"
 	"veil/frame"
 	"veil/pad"
+	"veil/server"
 	"veil/share"
 )
 
@@ -97,19 +98,33 @@ func (x *Client) Released() []api.Item {
 }
 
 // Server adds the masked lists up.
-type Server struct{}
+type Server struct {
+	inner server.Server
+}
 
 // NewServer makes a server (P12).
-func NewServer(c api.Config) (*Server, api.Errno) { return nil, api.OK }
+func NewServer(c api.Config) (*Server, api.Errno) {
+	inner, e := server.New(c)
+	if e != api.OK {
+		return nil, e
+	}
+	return &Server{inner: inner}, api.OK
+}
 
 // Take takes bytes in, and tells whether they count (P12).
-func (x *Server) Take(b []byte) bool { return false }
+func (x *Server) Take(b []byte) bool {
+	return x.inner.Take(b)
+}
 
 // Tick lets a unit of time go by (P13).
-func (x *Server) Tick() []api.Parcel { return nil }
+func (x *Server) Tick() []api.Parcel {
+	return x.inner.Tick()
+}
 
 // Outcome tells how it stands (P14).
-func (x *Server) Outcome() api.Outcome { return api.Outcome{} }
+func (x *Server) Outcome() api.Outcome {
+	return x.inner.Outcome()
+}
 
 // Session is a server, its clients, and what is in flight between them.
 type Session struct{}
