@@ -111,6 +111,13 @@ func (x *Client) written(kind int, items []api.Item) []byte {
 	return b
 }
 
+// Crash ends the client: it takes nothing any more. What it has told stays told.
+func (x *Client) Crash() {
+	told := x.told
+	x.halt()
+	x.told = told
+}
+
 // halt leaves of the client what its Hello needs, and no more.
 func (x *Client) halt() {
 	*x = Client{id: x.id, phase: halted, channelPublic: x.channelPublic, maskPublic: x.maskPublic}

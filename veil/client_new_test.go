@@ -33,28 +33,29 @@ func checkConfig(t *testing.T, c api.Config, right bool) {
 	pairFor(t, c, 1, drawOf(rand.New(rand.NewSource(8)), c))
 }
 
-func TestConfigurations(t *testing.T) {
+// eachConfig tries configurations, and what is none, each number at its edges
+// and beyond them.
+func eachConfig(try func(c api.Config, right bool)) {
 	numbers := []int{least, -1, 0, 1, 2, 3, 4, 5, 6, 11, 12, 13, 49, 50, 51, 1<<32 + 1, 1<<32 + 5, most}
 	for _, n := range numbers {
-		c := rightConfig
-		c.N = n
-		checkConfig(t, c, 3 <= n && n <= 12)
-		c = rightConfig
-		c.T = n
-		checkConfig(t, c, 1 <= n && n <= 5)
-		c = rightConfig
-		c.M = n
-		checkConfig(t, c, 1 <= n && n <= 12)
-		c = rightConfig
-		c.D = n
-		checkConfig(t, c, 1 <= n && n <= 50)
+		try(api.Config{N: n, T: 3, M: 4, D: 7}, 3 <= n && n <= 12)
+		try(api.Config{N: 5, T: n, M: 4, D: 7}, 1 <= n && n <= 5)
+		try(api.Config{N: 5, T: 3, M: n, D: 7}, 1 <= n && n <= 12)
+		try(api.Config{N: 5, T: 3, M: 4, D: n}, 1 <= n && n <= 50)
 		for _, m := range numbers {
-			checkConfig(t, api.Config{N: n, T: m, M: 1, D: 1}, 1 <= n && n <= 12 && 1 <= m && m <= n)
+			try(api.Config{N: n, T: m, M: 1, D: 1}, 1 <= n && n <= 12 && 1 <= m && m <= n)
 		}
 	}
-	checkConfig(t, api.Config{}, false)
-	checkConfig(t, api.Config{N: 1, T: 1, M: 1, D: 1}, true)
-	checkConfig(t, api.Config{N: 12, T: 12, M: 12, D: 50}, true)
+	try(api.Config{}, false)
+	try(api.Config{N: 1, T: 1, M: 1, D: 1}, true)
+	try(api.Config{N: 12, T: 12, M: 12, D: 50}, true)
+}
+
+func TestConfigurations(t *testing.T) {
+	eachConfig(func(c api.Config, right bool) {
+		t.Helper()
+		checkConfig(t, c, right)
+	})
 }
 
 func TestNumbersOfClients(t *testing.T) {

@@ -115,29 +115,39 @@ func spare(l []int) ([]int, []int) {
 	return room[:len(l)], room
 }
 
+// roomOf gives a draw whose lists have room behind them, and these lists with
+// their room.
+func roomOf(d api.Draw) (api.Draw, [][]int) {
+	input, inputRoom := spare(d.Input)
+	splitMask, maskRoom := spare(d.SplitMask)
+	splitSeed, seedRoom := spare(d.SplitSeed)
+	d.Input, d.SplitMask, d.SplitSeed = input, splitMask, splitSeed
+	return d, [][]int{inputRoom, maskRoom, seedRoom}
+}
+
+// checkRooms: the lists of a draw and their spare room are as roomOf made them.
+func checkRooms(t *testing.T, rooms [][]int, d api.Draw) {
+	t.Helper()
+	_, want := roomOf(d)
+	for i, room := range rooms {
+		if !same(room, want[i]) {
+			t.Errorf("P2: %v was left behind, want %v", room, want[i])
+		}
+	}
+}
+
 // TestDrawsAreNotWrittenInto (P2): neither the lists of a draw nor their spare
 // room, from the beginning to the end.
 func TestDrawsAreNotWrittenInto(t *testing.T) {
 	for _, id := range []int{1, 3, 5} {
 		r := roundOf(id)
-		d := r.group.clients[id-1].draw
-		input, inputRoom := spare(d.Input)
-		splitMask, maskRoom := spare(d.SplitMask)
-		splitSeed, seedRoom := spare(d.SplitSeed)
-		d.Input, d.SplitMask, d.SplitSeed = input, splitMask, splitSeed
+		given := r.group.clients[id-1].draw
+		d, rooms := roomOf(given)
 		p := pairFor(t, r.group.config, id, d)
 		for i, f := range r.frames() {
 			p.goesTo(t, i+2, f)
 		}
-		_, wantInput := spare(input)
-		_, wantMask := spare(splitMask)
-		_, wantSeed := spare(splitSeed)
-		if !same(inputRoom, wantInput) || !same(maskRoom, wantMask) || !same(seedRoom, wantSeed) {
-			t.Errorf("P2: a client left %v, %v and %v behind", inputRoom, maskRoom, seedRoom)
-		}
-		if !same(input, r.group.clients[id-1].draw.Input) || !same(splitMask, r.group.clients[id-1].draw.SplitMask) || !same(splitSeed, r.group.clients[id-1].draw.SplitSeed) {
-			t.Errorf("P2: a client made the draw %v", d)
-		}
+		checkRooms(t, rooms, given)
 	}
 }
 
@@ -146,10 +156,7 @@ func TestDrawsAreNotWrittenInto(t *testing.T) {
 func TestDrawsAreNotKept(t *testing.T) {
 	for when := 1; when <= 4; when++ {
 		r := roundOf(3)
-		d := r.group.clients[2].draw
-		d.Input, _ = spare(d.Input)
-		d.SplitMask, _ = spare(d.SplitMask)
-		d.SplitSeed, _ = spare(d.SplitSeed)
+		d, _ := roomOf(r.group.clients[2].draw)
 		p := pairFor(t, r.group.config, 3, d)
 		for i, f := range r.frames() {
 			if i+1 == when {

@@ -18,27 +18,14 @@ func checkNoServer(t *testing.T, c api.Config) {
 
 // TestServersOfConfigurations (P12): there is a server just of a configuration.
 func TestServersOfConfigurations(t *testing.T) {
-	numbers := []int{least, -1, 0, 1, 2, 3, 4, 5, 6, 11, 12, 13, 49, 50, 51, 1<<32 + 1, 1<<32 + 5, most}
-	check := func(c api.Config, right bool) {
+	eachConfig(func(c api.Config, right bool) {
 		t.Helper()
-		if !right {
+		if right {
+			serverFor(t, c).stands(t, api.Outcome{})
+		} else {
 			checkNoServer(t, c)
-			return
 		}
-		serverFor(t, c).stands(t, api.Outcome{})
-	}
-	for _, n := range numbers {
-		check(api.Config{N: n, T: 3, M: 4, D: 7}, 3 <= n && n <= 12)
-		check(api.Config{N: 5, T: n, M: 4, D: 7}, 1 <= n && n <= 5)
-		check(api.Config{N: 5, T: 3, M: n, D: 7}, 1 <= n && n <= 12)
-		check(api.Config{N: 5, T: 3, M: 4, D: n}, 1 <= n && n <= 50)
-		for _, m := range numbers {
-			check(api.Config{N: n, T: m, M: 1, D: 1}, 1 <= n && n <= 12 && 1 <= m && m <= n)
-		}
-	}
-	check(api.Config{}, false)
-	check(api.Config{N: 1, T: 1, M: 1, D: 1}, true)
-	check(api.Config{N: 12, T: 12, M: 12, D: 50}, true)
+	})
 }
 
 // countCourse has seven clients, of whom 4 and 6 never say Hello, and 2, 3 and

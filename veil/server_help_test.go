@@ -337,9 +337,18 @@ func (k course) goesOn(t *testing.T, p serverPair, from, to int) {
 
 // wanted is the sum of the lists of U2, and whose they are.
 func (k course) wanted() api.Outcome {
-	o := api.Outcome{State: api.Done, Set: slices.Clone(k.stay[2]), Sum: make([]int, k.group.config.M)}
-	for _, u := range k.stay[2] {
-		for i, number := range k.group.clients[u-1].draw.Input {
+	var draws []api.Draw
+	for _, x := range k.group.clients {
+		draws = append(draws, x.draw)
+	}
+	return added(k.group.config, draws, slices.Clone(k.stay[2]))
+}
+
+// added is the outcome that is done with the lists of a set.
+func added(c api.Config, draws []api.Draw, set []int) api.Outcome {
+	o := api.Outcome{State: api.Done, Set: set, Sum: make([]int, c.M)}
+	for _, u := range set {
+		for i, number := range draws[u-1].Input {
 			o.Sum[i] = (o.Sum[i] + number) % api.Word
 		}
 	}

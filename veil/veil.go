@@ -9,6 +9,7 @@ import (
 	"veil/frame"
 	"veil/pad"
 	"veil/server"
+	"veil/session"
 	"veil/share"
 )
 
@@ -127,34 +128,60 @@ func (x *Server) Outcome() api.Outcome {
 }
 
 // Session is a server, its clients, and what is in flight between them.
-type Session struct{}
+type Session struct {
+	inner session.Session
+}
 
 // NewSession makes a session (P15).
-func NewSession(c api.Config, draws []api.Draw) (*Session, api.Errno) { return nil, api.OK }
+func NewSession(c api.Config, draws []api.Draw) (*Session, api.Errno) {
+	inner, e := session.New(c, draws)
+	if e != api.OK {
+		return nil, e
+	}
+	return &Session{inner: inner}, api.OK
+}
 
 // Flight tells what is in flight (P15).
-func (x *Session) Flight() []api.Parcel { return nil }
+func (x *Session) Flight() []api.Parcel {
+	return x.inner.Flight()
+}
 
 // Deliver brings a parcel to whom it is for (P16).
-func (x *Session) Deliver(i int) api.Errno { return api.OK }
+func (x *Session) Deliver(i int) api.Errno {
+	return x.inner.Deliver(i)
+}
 
 // Drop loses a parcel (P16).
-func (x *Session) Drop(i int) api.Errno { return api.OK }
+func (x *Session) Drop(i int) api.Errno {
+	return x.inner.Drop(i)
+}
 
 // Double makes a parcel twice (P16).
-func (x *Session) Double(i int) api.Errno { return api.OK }
+func (x *Session) Double(i int) api.Errno {
+	return x.inner.Double(i)
+}
 
 // Inject brings bytes that nobody sent (P16).
-func (x *Session) Inject(to int, b []byte) api.Errno { return api.OK }
+func (x *Session) Inject(to int, b []byte) api.Errno {
+	return x.inner.Inject(to, b)
+}
 
 // Tick lets a unit of time go by (P16).
-func (x *Session) Tick() {}
+func (x *Session) Tick() {
+	x.inner.Tick()
+}
 
 // Crash ends a client (P16).
-func (x *Session) Crash(u int) api.Errno { return api.OK }
+func (x *Session) Crash(u int) api.Errno {
+	return x.inner.Crash(u)
+}
 
 // Outcome tells how it stands (P14).
-func (x *Session) Outcome() api.Outcome { return api.Outcome{} }
+func (x *Session) Outcome() api.Outcome {
+	return x.inner.Outcome()
+}
 
 // Released tells which shares a client has told (P16).
-func (x *Session) Released(u int) []api.Item { return nil }
+func (x *Session) Released(u int) []api.Item {
+	return x.inner.Released(u)
+}
